@@ -2,74 +2,28 @@ package movingbool_test
 
 import (
 	"slices"
-	"strings"
 	"testing"
 
 	"viator/api"
-	"viator/integer"
 	"viator/movingbool"
+	"viator/notation"
 	"viator/period"
-	"viator/rational"
 	"viator/real"
 )
 
-func rat(s string) api.Rat {
-	r, e := rational.Parse(s)
-	if e != api.OK {
-		panic(s)
-	}
-	return r
-}
-
-func re(s string) api.Real {
-	x, e := real.Parse(s)
-	if e != api.OK {
-		panic(s)
-	}
-	return x
-}
-
-func reals(s string) []api.Real {
-	var list []api.Real
-	for _, word := range strings.Fields(s) {
-		list = append(list, re(word))
-	}
-	return list
-}
-
-// in returns the interval that a string like "[0 1+sqrt(2))" shows, list those that are divided by commas, and moving the moving Boolean with two such lists.
-func in(s string) api.Interval {
-	ends := strings.Fields(s[1 : len(s)-1])
-	return api.Interval{From: re(ends[0]), To: re(ends[1]), OpenFrom: s[0] == '(', OpenTo: s[len(s)-1] == ')'}
-}
-
-func list(s string) []api.Interval {
-	var l []api.Interval
-	for _, part := range strings.Split(s, ", ") {
-		if part != "" {
-			l = append(l, in(part))
-		}
-	}
-	return l
-}
+// The strings of the tests are those of package notation.
+var (
+	rat   = notation.Rat
+	re    = notation.Real
+	reals = notation.Reals
+	in    = notation.Interval
+	list  = notation.Period
+	show  = notation.ShowPeriod
+	wrong = notation.Wrong
+)
 
 func moving(domain, true string) api.Bool {
 	return api.Bool{Domain: list(domain), True: list(true)}
-}
-
-func show(l []api.Interval) string {
-	var parts []string
-	for _, i := range l {
-		left, right := "[", "]"
-		if i.OpenFrom {
-			left = "("
-		}
-		if i.OpenTo {
-			right = ")"
-		}
-		parts = append(parts, left+real.Print(i.From)+" "+real.Print(i.To)+right)
-	}
-	return strings.Join(parts, ", ")
 }
 
 func showBool(b api.Bool) string { return show(b.Domain) + " | " + show(b.True) }
@@ -186,12 +140,6 @@ func pairs(f func(s scale, v, w truth, a, b api.Bool)) {
 			}
 		}
 	}
-}
-
-// wrong returns numbers that are not canonical.
-func wrong() []api.Real {
-	zero := api.Int{Mag: "\x00"}
-	return []api.Real{{Neg: true}, {P: api.Rat{Num: zero}}, {P: api.Rat{Num: integer.FromInt(2), Den: integer.FromInt(4)}}, {R: rat("4")}, {R: rat("-2")}, {P: api.Rat{Num: integer.FromInt(1), Den: integer.FromInt(1)}}}
 }
 
 func TestP12_1Check(t *testing.T) {

@@ -5,72 +5,23 @@ import (
 	"strings"
 
 	"viator/api"
-	"viator/integer"
 	"viator/movingnumber"
+	"viator/notation"
 	"viator/rational"
 	"viator/real"
 )
 
-func rat(s string) api.Rat {
-	r, e := rational.Parse(s)
-	if e != api.OK {
-		panic(s)
-	}
-	return r
-}
-
-func re(s string) api.Real {
-	x, e := real.Parse(s)
-	if e != api.OK {
-		panic(s)
-	}
-	return x
-}
-
-func reals(s string) []api.Real {
-	var list []api.Real
-	for _, word := range strings.Fields(s) {
-		list = append(list, re(word))
-	}
-	return list
-}
-
-// in returns the interval that a string like "[0 1+sqrt(2))" shows, and list those that are divided by commas.
-func in(s string) api.Interval {
-	ends := strings.Fields(s[1 : len(s)-1])
-	return api.Interval{From: re(ends[0]), To: re(ends[1]), OpenFrom: s[0] == '(', OpenTo: s[len(s)-1] == ')'}
-}
-
-func list(s string) []api.Interval {
-	var l []api.Interval
-	for _, part := range strings.Split(s, ", ") {
-		if part != "" {
-			l = append(l, in(part))
-		}
-	}
-	return l
-}
-
-func show(l []api.Interval) string {
-	var parts []string
-	for _, i := range l {
-		left, right := "[", "]"
-		if i.OpenFrom {
-			left = "("
-		}
-		if i.OpenTo {
-			right = ")"
-		}
-		parts = append(parts, left+real.Print(i.From)+" "+real.Print(i.To)+right)
-	}
-	return strings.Join(parts, ", ")
-}
-
-// quad returns the function with coefficients like "2" or "0,-1,1/2".
-func quad(s string) api.Quad {
-	c := append(strings.Split(s, ","), "0", "0")
-	return api.Quad{C0: rat(c[0]), C1: rat(c[1]), C2: rat(c[2])}
-}
+// The strings of the tests are those of package notation.
+var (
+	rat   = notation.Rat
+	re    = notation.Real
+	reals = notation.Reals
+	in    = notation.Interval
+	list  = notation.Period
+	show  = notation.ShowPeriod
+	quad  = notation.Quad
+	wrong = notation.Wrong
+)
 
 // units returns the units that a string like "[0 1) 0,1; [1 1] 5" shows.
 func units(s string) []api.NumberUnit {
@@ -86,8 +37,7 @@ func units(s string) []api.NumberUnit {
 func showUnits(l []api.NumberUnit) string {
 	var parts []string
 	for _, u := range l {
-		f := rational.Print(u.F.C0) + "," + rational.Print(u.F.C1) + "," + rational.Print(u.F.C2)
-		parts = append(parts, show([]api.Interval{u.In})+" "+strings.TrimSuffix(strings.TrimSuffix(f, ",0"), ",0"))
+		parts = append(parts, notation.ShowInterval(u.In)+" "+notation.ShowQuad(u.F))
 	}
 	return strings.Join(parts, "; ")
 }
@@ -203,10 +153,4 @@ func is(l []api.NumberUnit, instants []api.Real, want func(t api.Real) (number, 
 		}
 	}
 	return len(l) > api.MaxUnits || movingnumber.Check(l) == api.OK
-}
-
-// wrong returns numbers that are not canonical.
-func wrong() []api.Real {
-	zero := api.Int{Mag: "\x00"}
-	return []api.Real{{Neg: true}, {P: api.Rat{Num: zero}}, {P: api.Rat{Num: integer.FromInt(2), Den: integer.FromInt(4)}}, {R: rat("4")}, {R: rat("-2")}, {P: api.Rat{Num: integer.FromInt(1), Den: integer.FromInt(1)}}}
 }

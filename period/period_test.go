@@ -3,70 +3,25 @@ package period_test
 import (
 	"math/rand"
 	"slices"
-	"strings"
 	"testing"
 
 	"viator/api"
-	"viator/integer"
+	"viator/notation"
 	"viator/period"
 	"viator/rational"
 	"viator/real"
 )
 
-func rat(s string) api.Rat {
-	r, e := rational.Parse(s)
-	if e != api.OK {
-		panic(s)
-	}
-	return r
-}
-
-func re(s string) api.Real {
-	x, e := real.Parse(s)
-	if e != api.OK {
-		panic(s)
-	}
-	return x
-}
-
-func reals(s string) []api.Real {
-	var list []api.Real
-	for _, word := range strings.Fields(s) {
-		list = append(list, re(word))
-	}
-	return list
-}
-
-// in returns the interval that a string like "[0 1+sqrt(2))" shows, and list those that are divided by commas.
-func in(s string) api.Interval {
-	ends := strings.Fields(s[1 : len(s)-1])
-	return api.Interval{From: re(ends[0]), To: re(ends[1]), OpenFrom: s[0] == '(', OpenTo: s[len(s)-1] == ')'}
-}
-
-func list(s string) []api.Interval {
-	var l []api.Interval
-	for _, part := range strings.Split(s, ", ") {
-		if part != "" {
-			l = append(l, in(part))
-		}
-	}
-	return l
-}
-
-func show(l []api.Interval) string {
-	var parts []string
-	for _, i := range l {
-		left, right := "[", "]"
-		if i.OpenFrom {
-			left = "("
-		}
-		if i.OpenTo {
-			right = ")"
-		}
-		parts = append(parts, left+real.Print(i.From)+" "+real.Print(i.To)+right)
-	}
-	return strings.Join(parts, ", ")
-}
+// The strings of the tests are those of package notation.
+var (
+	rat   = notation.Rat
+	re    = notation.Real
+	reals = notation.Reals
+	in    = notation.Interval
+	list  = notation.Period
+	show  = notation.ShowPeriod
+	wrong = notation.Wrong
+)
 
 // expect complains unless a result consists of some intervals.
 func expect(t *testing.T, what string, got []api.Interval, want string) {
@@ -131,12 +86,6 @@ func pairs(f func(s scale, x, y int, a, b []api.Interval)) {
 			}
 		}
 	}
-}
-
-// wrong returns numbers that are not canonical.
-func wrong() []api.Real {
-	zero := api.Int{Mag: "\x00"}
-	return []api.Real{{Neg: true}, {P: api.Rat{Num: zero}}, {P: api.Rat{Num: integer.FromInt(2), Den: integer.FromInt(4)}}, {R: rat("4")}, {R: rat("-2")}, {P: api.Rat{Num: integer.FromInt(1), Den: integer.FromInt(1)}}}
 }
 
 func TestP6_1CheckInterval(t *testing.T) {

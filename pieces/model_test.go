@@ -7,73 +7,25 @@ import (
 
 	"viator/api"
 	"viator/integer"
+	"viator/notation"
 	"viator/pieces"
 	"viator/quadratic"
 	"viator/rational"
 	"viator/real"
 )
 
-func rat(s string) api.Rat {
-	r, e := rational.Parse(s)
-	if e != api.OK {
-		panic(s)
-	}
-	return r
-}
-
-func re(s string) api.Real {
-	x, e := real.Parse(s)
-	if e != api.OK {
-		panic(s)
-	}
-	return x
-}
-
-func reals(s string) []api.Real {
-	var list []api.Real
-	for _, word := range strings.Fields(s) {
-		list = append(list, re(word))
-	}
-	return list
-}
-
-// in returns the interval that a string like "[0 1+sqrt(2))" shows, and list those that are divided by commas.
-func in(s string) api.Interval {
-	ends := strings.Fields(s[1 : len(s)-1])
-	return api.Interval{From: re(ends[0]), To: re(ends[1]), OpenFrom: s[0] == '(', OpenTo: s[len(s)-1] == ')'}
-}
-
-func list(s string) []api.Interval {
-	var l []api.Interval
-	for _, part := range strings.Split(s, ", ") {
-		if part != "" {
-			l = append(l, in(part))
-		}
-	}
-	return l
-}
-
-func show(i api.Interval) string {
-	left, right := "[", "]"
-	if i.OpenFrom {
-		left = "("
-	}
-	if i.OpenTo {
-		right = ")"
-	}
-	return left + real.Print(i.From) + " " + real.Print(i.To) + right
-}
-
-// quad returns the function with coefficients like "2" or "0,-1,1/2".
-func quad(s string) api.Quad {
-	c := append(strings.Split(s, ","), "0", "0")
-	return api.Quad{C0: rat(c[0]), C1: rat(c[1]), C2: rat(c[2])}
-}
-
-func showQuad(q api.Quad) string {
-	s := rational.Print(q.C0) + "," + rational.Print(q.C1) + "," + rational.Print(q.C2)
-	return strings.TrimSuffix(strings.TrimSuffix(s, ",0"), ",0")
-}
+// The strings of the tests are those of package notation.
+var (
+	rat      = notation.Rat
+	re       = notation.Real
+	reals    = notation.Reals
+	in       = notation.Interval
+	list     = notation.Period
+	quad     = notation.Quad
+	showQuad = notation.ShowQuad
+	wrong    = notation.Wrong
+	show     = notation.ShowInterval
+)
 
 type (
 	unit  = pieces.Unit[api.Quad]
@@ -352,12 +304,6 @@ func marks() world[tagged] {
 		w.functions = append(w.functions, tagged{q, []string{showInt(k)}})
 	}
 	return w
-}
-
-// wrong returns numbers that are not canonical.
-func wrong() []api.Real {
-	zero := api.Int{Mag: "\x00"}
-	return []api.Real{{Neg: true}, {P: api.Rat{Num: zero}}, {P: api.Rat{Num: integer.FromInt(2), Den: integer.FromInt(4)}}, {R: rat("4")}, {R: rat("-2")}, {P: api.Rat{Num: integer.FromInt(1), Den: integer.FromInt(1)}}}
 }
 
 // count complains unless something has happened often enough for a test to mean something.

@@ -2,6 +2,7 @@ package pieces
 
 import (
 	"viator/api"
+	"viator/linear"
 	"viator/quadratic"
 )
 
@@ -20,13 +21,8 @@ func (Quads) Same(f, g api.Quad, t api.Real) bool { return quadratic.Same(f, g, 
 
 func (Quads) Reduce(f api.Quad, t api.Real) api.Quad { return quadratic.Reduce(f, t) }
 
-// coordinates returns the coordinates of a moving point as linear functions.
-func coordinates(f api.Line) (x, y api.Quad) {
-	return quadratic.Linear(f.X0, f.X1), quadratic.Linear(f.Y0, f.Y1)
-}
-
 func (Lines) Check(f api.Line) api.Errno {
-	x, y := coordinates(f)
+	x, y := linear.Coordinates(f)
 	if e := quadratic.Check(x); e != api.OK {
 		return e
 	}
@@ -36,15 +32,14 @@ func (Lines) Check(f api.Line) api.Errno {
 func (Lines) Equal(f, g api.Line) bool { return f == g }
 
 func (Lines) Same(f, g api.Line, t api.Real) bool {
-	fx, fy := coordinates(f)
-	gx, gy := coordinates(g)
+	fx, fy := linear.Coordinates(f)
+	gx, gy := linear.Coordinates(g)
 	return quadratic.Same(fx, gx, t) && quadratic.Same(fy, gy, t)
 }
 
 func (Lines) Reduce(f api.Line, t api.Real) api.Line {
-	x, y := coordinates(f)
-	x, y = quadratic.Reduce(x, t), quadratic.Reduce(y, t)
-	return api.Line{X0: x.C0, X1: x.C1, Y0: y.C0, Y1: y.C1}
+	x, y := linear.Coordinates(f)
+	return linear.Point(quadratic.Reduce(x, t), quadratic.Reduce(y, t))
 }
 
 func (Labels) Check(f int) api.Errno { return api.OK }
