@@ -78,3 +78,27 @@ func product(p, q api.Quad) api.Quad {
 	result, _ := quadratic.Mul(p, q)
 	return result
 }
+
+// Turn returns the function that is positive where the way from a over b to c turns left.
+func Turn(a, b, c api.Line) api.Quad { return Cross(Sub(b, a), Sub(c, a)) }
+
+// Surrounds reports whether a point is inside of a ring, on which it is not, at an instant at which a function tells the signs of quadratics, and SignsAt returns this function for an instant.
+func Surrounds(ring []api.Line, p api.Line, sign func(q api.Quad) int) bool {
+	above := func(v api.Line) bool {
+		_, y := Coordinates(Sub(v, p))
+		return sign(y) > 0
+	}
+	inside := false
+	for k := range len(ring) {
+		a, b := ring[k], ring[(k+1)%len(ring)]
+		// A ray to the right crosses an edge that leads upwards if the point is on the left of it, and one that leads downwards if it is on the right.
+		if up := above(b); above(a) != up && (sign(Turn(a, b, p)) > 0) == up {
+			inside = !inside
+		}
+	}
+	return inside
+}
+
+func SignsAt(t api.Real) func(q api.Quad) int {
+	return func(q api.Quad) int { return quadratic.SignAt(q, t) }
+}

@@ -1,6 +1,7 @@
 package linear_test
 
 import (
+	"slices"
 	"strings"
 	"testing"
 
@@ -11,12 +12,14 @@ import (
 	"viator/quadratic"
 	"viator/rational"
 	"viator/real"
+	"viator/surd"
 )
 
 // The strings of the tests are those of package notation.
 var (
-	rat = notation.Rat
-	re  = notation.Real
+	rat   = notation.Rat
+	re    = notation.Real
+	reals = notation.Reals
 )
 
 // line returns the moving point with coordinates like "0,2 5,-1/3".
@@ -120,6 +123,80 @@ func TestVectors(t *testing.T) {
 				if quadratic.Eval(linear.Cross(f, g), at) != plane.CrossProduct(p, q) || quadratic.Eval(linear.Dot(f, g), at) != plane.Dot(p, q) {
 					t.Errorf("a product of %v and %v at %s", f, g, rational.Print(at))
 				}
+			}
+		}
+	}
+}
+
+func TestTurn(t *testing.T) {
+	for _, a := range lines() {
+		for _, b := range lines() {
+			for _, c := range lines() {
+				for _, at := range instants() {
+					got := rational.Sign(quadratic.Eval(linear.Turn(a, b, c), at))
+					if want := plane.Orientation(linear.AtRat(a, at), linear.AtRat(b, at), linear.AtRat(c, at)); got != want {
+						t.Errorf("Turn(%v, %v, %v) at %s has the sign %d; want %d", a, b, c, rational.Print(at), got, want)
+					}
+				}
+			}
+		}
+	}
+}
+
+// A point at the same height as vertices, and to the left of some of them, is tried as well as others.
+func TestSurrounds(t *testing.T) {
+	comb := notation.Rings("0:0 8:0 8,1:4 6:1,1 4:4 2:1,1 0,-1:4")[0]
+	rings := [][]api.Line{comb, nil}
+	for k := range len(comb) { // begun at each vertex, and backwards
+		turned := append(append([]api.Line{}, comb[k:]...), comb[:k]...)
+		back := append([]api.Line{}, turned...)
+		slices.Reverse(back)
+		rings = append(rings, turned, back)
+	}
+	checked := 0
+	for _, ring := range rings {
+		for _, at := range reals("0 1 1/3 0+sqrt(2) 1-sqrt(1/5)") {
+			var spots []surd.Spot
+			for _, v := range ring {
+				spots = append(spots, surd.Position(v, at))
+			}
+			for x := -2; x <= 20; x++ {
+				for y := -1; y <= 9; y++ {
+					half := rat("1/2")
+					p := linear.Fixed(api.Point{X: rational.Mul(rational.FromInt(x), half), Y: rational.Mul(rational.FromInt(y), half)})
+					if isOn(surd.Position(p, at), spots) {
+						continue
+					}
+					checked++
+					if got, want := linear.Surrounds(ring, p, linear.SignsAt(at)), surd.Within(surd.Position(p, at), spots); got != want {
+						t.Errorf("Surrounds(%s; %v) at %s = %v", notation.ShowRings([][]api.Line{ring}), p, real.Print(at), got)
+					}
+				}
+			}
+		}
+	}
+	if checked < 10000 {
+		t.Errorf("%d points only", checked)
+	}
+}
+
+// isOn tells whether a position is on a ring.
+func isOn(p surd.Spot, ring []surd.Spot) bool {
+	for k, a := range ring {
+		toA, toB := a.Minus(p), ring[(k+1)%len(ring)].Minus(p)
+		if surd.Cross(toA, toB).Sign() == 0 && surd.Dot(toA, toB).Sign() <= 0 {
+			return true
+		}
+	}
+	return false
+}
+
+func TestSignsAt(t *testing.T) {
+	for _, at := range append(roots(), re("0"), re("5/2")) {
+		sign := linear.SignsAt(at)
+		for _, s := range []string{"0", "-1/2", "0,1", "-2,0,1", "1,2,-3"} {
+			if q := notation.Quad(s); sign(q) != quadratic.SignAt(q, at) {
+				t.Errorf("the sign of %s at %s is %d", s, real.Print(at), sign(q))
 			}
 		}
 	}

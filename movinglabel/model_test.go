@@ -2,8 +2,6 @@ package movinglabel_test
 
 import (
 	"slices"
-	"strconv"
-	"strings"
 
 	"viator/api"
 	"viator/notation"
@@ -20,30 +18,9 @@ var (
 	list      = notation.Period
 	show      = notation.ShowPeriod
 	wrong     = notation.Wrong
+	units     = notation.LabelUnits
+	showUnits = notation.ShowLabelUnits
 )
-
-// units returns the units that a string like "[0 1) 5; [1 1] -3" shows.
-func units(s string) []api.LabelUnit {
-	var l []api.LabelUnit
-	for _, part := range strings.Split(s, "; ") {
-		if words := strings.Fields(part); len(words) == 3 {
-			label, err := strconv.Atoi(words[2])
-			if err != nil {
-				panic(s)
-			}
-			l = append(l, api.LabelUnit{In: in(words[0] + " " + words[1]), Label: label})
-		}
-	}
-	return l
-}
-
-func showUnits(l []api.LabelUnit) string {
-	var parts []string
-	for _, u := range l {
-		parts = append(parts, notation.ShowInterval(u.In)+" "+strconv.Itoa(u.Label))
-	}
-	return strings.Join(parts, "; ")
-}
 
 // world is a model: instants, and the gaps between them, are numbered in order, and each of these cells has one of the labels, or none.
 type world struct {

@@ -23,8 +23,6 @@ func both(a, b []api.NumberUnit, operation func(v, w number) number) func(t api.
 	}
 }
 
-func minus(v, w number) number { return v.plus(w.scale(rat("-1"))) }
-
 func TestP14_3Sums(t *testing.T) {
 	for _, c := range [][4]string{
 		{"[0 2] 0,1", "[1 3] 1,-1", "[1 2] 1", "[1 2] -1,2"}, {"[0 2] 0,0,1", "[0+sqrt(2) 0+sqrt(2)] 0,1", "[0+sqrt(2) 0+sqrt(2)] 2,1", "[0+sqrt(2) 0+sqrt(2)] 2,-1"}, {"[0 1) 1", "[1 2] 1", "", ""}, {"", "[1 2] 1", "", ""}, {"[0 2] 1", "[0 1) 3; [1 1] 5; (1 2) 3", "[0 1) 4; [1 1] 6; (1 2) 4", "[0 1) -2; [1 1] -4; (1 2) -2"}, {"[0 1] 0,1; (1 2] 2,-1", "[0 1] 2,-1; (1 2] 0,1", "[0 2] 2", "[0 1] -2,2; (1 2] 2,-2"},
@@ -39,10 +37,10 @@ func TestP14_3Sums(t *testing.T) {
 	}
 	pairs(func(a, b []api.NumberUnit) {
 		when := instants(nil, a, b)
-		if sum := movingnumber.Add(a, b); !is(sum, when, both(a, b, number.plus)) {
+		if sum := movingnumber.Add(a, b); !is(sum, when, both(a, b, number.Plus)) {
 			t.Errorf("Add(%s; %s) = %s", showUnits(a), showUnits(b), showUnits(sum))
 		}
-		if difference := movingnumber.Sub(a, b); !is(difference, when, both(a, b, minus)) {
+		if difference := movingnumber.Sub(a, b); !is(difference, when, both(a, b, number.Minus)) {
 			t.Errorf("Sub(%s; %s) = %s", showUnits(a), showUnits(b), showUnits(difference))
 		}
 	})
@@ -58,7 +56,7 @@ func TestP14_3Scale(t *testing.T) {
 		for _, by := range []string{"0", "1", "-1", "2/3", "-7"} {
 			if got := movingnumber.Scale(l, rat(by)); !is(got, instants(nil, l), func(x api.Real) (number, bool) {
 				value, defined := at(l, x)
-				return value.scale(rat(by)), defined
+				return value.Scale(rat(by)), defined
 			}) {
 				t.Errorf("Scale(%s; %s) = %s", showUnits(l), by, showUnits(got))
 			}
@@ -103,7 +101,7 @@ func TestP14_3Product(t *testing.T) {
 			return
 		}
 		made++
-		if !is(l, instants(nil, a, b), both(a, b, number.times)) {
+		if !is(l, instants(nil, a, b), both(a, b, number.Times)) {
 			t.Errorf("Product(%s; %s) = %s", showUnits(a), showUnits(b), showUnits(l))
 		}
 	})
@@ -171,7 +169,7 @@ func TestP14_5(t *testing.T) {
 			if !ok || !defined {
 				return 0, false
 			}
-			return real.Compare(v.real(), w.real()), true
+			return real.Compare(v.Real(), w.Real()), true
 		}
 		for name, c := range map[string]struct {
 			got      api.Bool
@@ -207,7 +205,7 @@ func TestP14_5When(t *testing.T) {
 			got := movingnumber.When(l, low, high)
 			for _, x := range instants([]api.Rat{low, high}, l) {
 				value, defined := at(l, x)
-				want := defined && real.CompareRat(value.real(), low) >= 0 && real.CompareRat(value.real(), high) <= 0
+				want := defined && real.CompareRat(value.Real(), low) >= 0 && real.CompareRat(value.Real(), high) <= 0
 				if period.Contains(got, x) != want {
 					t.Errorf("When(%s; %s; %s) = %s", showUnits(l), bounds[0], bounds[1], show(got))
 					break

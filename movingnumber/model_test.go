@@ -1,83 +1,34 @@
 package movingnumber_test
 
 import (
-	"slices"
-	"strings"
-
 	"viator/api"
 	"viator/movingnumber"
 	"viator/notation"
 	"viator/rational"
 	"viator/real"
+	"viator/surd"
 )
 
 // The strings of the tests are those of package notation.
 var (
-	rat   = notation.Rat
-	re    = notation.Real
-	reals = notation.Reals
-	in    = notation.Interval
-	list  = notation.Period
-	show  = notation.ShowPeriod
-	quad  = notation.Quad
-	wrong = notation.Wrong
+	rat       = notation.Rat
+	re        = notation.Real
+	reals     = notation.Reals
+	in        = notation.Interval
+	list      = notation.Period
+	show      = notation.ShowPeriod
+	wrong     = notation.Wrong
+	units     = notation.NumberUnits
+	showUnits = notation.ShowNumberUnits
 )
 
-// units returns the units that a string like "[0 1) 0,1; [1 1] 5" shows.
-func units(s string) []api.NumberUnit {
-	var l []api.NumberUnit
-	for _, part := range strings.Split(s, "; ") {
-		if words := strings.Fields(part); len(words) == 3 {
-			l = append(l, api.NumberUnit{In: in(words[0] + " " + words[1]), F: quad(words[2])})
-		}
-	}
-	return l
-}
+// The values that the tests expect are those of package surd.
+type number = surd.Number
 
-func showUnits(l []api.NumberUnit) string {
-	var parts []string
-	for _, u := range l {
-		parts = append(parts, notation.ShowInterval(u.In)+" "+notation.ShowQuad(u.F))
-	}
-	return strings.Join(parts, "; ")
-}
-
-// number is p + q*s, where s is the root of the R of an instant (with a minus, if Neg is set). Sums and products of the values at an instant are such numbers; they are computed without the packages above real.
-type number struct{ p, q, r api.Rat }
-
-func plus(a, b api.Rat) api.Rat  { return rational.Add(a, b) }
-func times(a, b api.Rat) api.Rat { return rational.Mul(a, b) }
-
-func (a number) plus(b number) number { return number{plus(a.p, b.p), plus(a.q, b.q), a.r} }
-
-func (a number) times(b number) number {
-	return number{plus(times(a.p, b.p), times(times(a.q, b.q), a.r)), plus(times(a.p, b.q), times(a.q, b.p)), a.r}
-}
-
-func (a number) scale(by api.Rat) number { return number{times(a.p, by), times(a.q, by), a.r} }
-
-func (a number) real() api.Real {
-	x, e := real.Make(a.p, a.q, a.r)
-	if e != api.OK {
-		panic(e)
-	}
-	return x
-}
-
-// valueOf returns the value of a function at an instant.
-func valueOf(f api.Quad, t api.Real) number {
-	sign := rat("1")
-	if t.Neg {
-		sign = rat("-1")
-	}
-	at := number{t.P, sign, t.R}
-	return at.times(at).scale(f.C2).plus(at.scale(f.C1)).plus(number{p: f.C0, r: t.R})
-}
-
-func contains(i api.Interval, t api.Real) bool {
-	from, to := real.Compare(i.From, t), real.Compare(t, i.To)
-	return (from < 0 || from == 0 && !i.OpenFrom) && (to < 0 || to == 0 && !i.OpenTo)
-}
+var (
+	valueOf  = surd.Value
+	contains = surd.Contains
+)
 
 // at returns the value of a moving number at an instant, and whether it is defined there.
 func at(l []api.NumberUnit, t api.Real) (number, bool) {
@@ -117,17 +68,7 @@ func instants(constants []api.Rat, lists ...[]api.NumberUnit) []api.Real {
 			special = append(special, roots...)
 		}
 	}
-	slices.SortFunc(special, real.Compare)
-	special = slices.Compact(special)
-	var all []api.Real
-	for k, t := range special {
-		if k > 0 {
-			between, _ := real.Between(special[k-1], t)
-			all = append(all, real.FromRat(between))
-		}
-		all = append(all, t)
-	}
-	return all
+	return surd.Instants(special)
 }
 
 // each calls a function with all samples, and pairs with all pairs of them.
@@ -148,7 +89,7 @@ func is(l []api.NumberUnit, instants []api.Real, want func(t api.Real) (number, 
 	for _, t := range instants {
 		value, defined := movingnumber.At(l, t)
 		n, ok := want(t)
-		if defined != ok || ok && value != n.real() || !ok && value != (api.Real{}) {
+		if defined != ok || ok && value != n.Real() || !ok && value != (api.Real{}) {
 			return false
 		}
 	}

@@ -197,7 +197,7 @@ func candidates(l []api.NumberUnit) []movingnumber.Extreme {
 		}
 		for _, x := range at {
 			if real.Compare(u.In.From, x) <= 0 && real.Compare(x, u.In.To) <= 0 {
-				all = append(all, movingnumber.Extreme{Value: valueOf(u.F, x).real(), At: x, Reached: contains(u.In, x)})
+				all = append(all, movingnumber.Extreme{Value: valueOf(u.F, x).Real(), At: x, Reached: contains(u.In, x)})
 			}
 		}
 	}

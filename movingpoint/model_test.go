@@ -1,14 +1,10 @@
 package movingpoint_test
 
 import (
-	"slices"
-	"strings"
-
 	"viator/api"
 	"viator/movingpoint"
 	"viator/notation"
-	"viator/rational"
-	"viator/real"
+	"viator/surd"
 )
 
 // The strings of the tests are those of package notation.
@@ -20,37 +16,12 @@ var (
 	in        = notation.Interval
 	list      = notation.Period
 	show      = notation.ShowPeriod
-	pair      = notation.Pair
-	showPair  = notation.ShowPair
 	wrong     = notation.Wrong
+	point     = notation.Point
+	units     = notation.PointUnits
+	showUnits = notation.ShowPointUnits
+	contains  = surd.Contains
 )
-
-func point(s string) api.Point {
-	x, y := pair(s)
-	return api.Point{X: x, Y: y}
-}
-
-// units returns the units that a string like "[0 1) 0,1 5; [1 1] 5 -1/2" shows: of each one the interval and the functions of both coordinates.
-func units(s string) []api.PointUnit {
-	var l []api.PointUnit
-	for _, part := range strings.Split(s, "; ") {
-		if words := strings.Fields(part); len(words) == 4 {
-			u := api.PointUnit{In: in(words[0] + " " + words[1])}
-			u.F.X0, u.F.X1 = pair(words[2])
-			u.F.Y0, u.F.Y1 = pair(words[3])
-			l = append(l, u)
-		}
-	}
-	return l
-}
-
-func showUnits(l []api.PointUnit) string {
-	var parts []string
-	for _, u := range l {
-		parts = append(parts, notation.ShowInterval(u.In)+" "+showPair(u.F.X0, u.F.X1)+" "+showPair(u.F.Y0, u.F.Y1))
-	}
-	return strings.Join(parts, "; ")
-}
 
 // samples contains moving points in normal form.
 func samples() []string {
@@ -77,28 +48,7 @@ func pairs(f func(a, b []api.PointUnit)) {
 	})
 }
 
-// value returns c0 + c1 * t, computed without the packages above real.
-func value(c0, c1 api.Rat, t api.Real) api.Real {
-	p := rational.Add(c0, rational.Mul(c1, t.P))
-	q := c1
-	if t.Neg {
-		q = rational.Neg(q)
-	}
-	x, e := real.Make(p, q, t.R)
-	if e != api.OK {
-		panic(e)
-	}
-	return x
-}
-
-func position(f api.Line, t api.Real) api.RealPoint {
-	return api.RealPoint{X: value(f.X0, f.X1, t), Y: value(f.Y0, f.Y1, t)}
-}
-
-func contains(i api.Interval, t api.Real) bool {
-	from, to := real.Compare(i.From, t), real.Compare(t, i.To)
-	return (from < 0 || from == 0 && !i.OpenFrom) && (to < 0 || to == 0 && !i.OpenTo)
-}
+func position(f api.Line, t api.Real) api.RealPoint { return surd.Position(f, t).Real() }
 
 // at returns the unit of a moving point to which an instant belongs.
 func at(l []api.PointUnit, t api.Real) (api.PointUnit, bool) {
@@ -127,17 +77,7 @@ func instants(lists ...[]api.PointUnit) []api.Real {
 			special = append(special, u.In.From, u.In.To)
 		}
 	}
-	slices.SortFunc(special, real.Compare)
-	special = slices.Compact(special)
-	var all []api.Real
-	for k, t := range special {
-		if k > 0 {
-			between, _ := real.Between(special[k-1], t)
-			all = append(all, real.FromRat(between))
-		}
-		all = append(all, t)
-	}
-	return all
+	return surd.Instants(special)
 }
 
 // is tells whether a moving point is in normal form and has, at each of some instants, the position that a function tells, which returns false if there is none.

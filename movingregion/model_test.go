@@ -6,75 +6,46 @@ import (
 	"strings"
 
 	"viator/api"
+	"viator/lists"
 	"viator/movingregion"
 	"viator/notation"
 	"viator/plane"
 	"viator/rational"
 	"viator/real"
+	"viator/surd"
 )
 
 // The strings of the tests are those of package notation.
 var (
-	rat      = notation.Rat
-	re       = notation.Real
-	reals    = notation.Reals
-	in       = notation.Interval
-	list     = notation.Period
-	show     = notation.ShowPeriod
-	pair     = notation.Pair
-	showPair = notation.ShowPair
-	wrong    = notation.Wrong
+	rat       = notation.Rat
+	re        = notation.Real
+	reals     = notation.Reals
+	in        = notation.Interval
+	list      = notation.Period
+	show      = notation.ShowPeriod
+	wrong     = notation.Wrong
+	poly      = notation.Polygon
+	units     = notation.RegionUnits
+	showUnits = notation.ShowRegionUnits
 )
 
-// shape returns the shape with rings of vertices like "0:0 4,1/2:0 0:4,-4 | 1:1 2:1 1:2": of each vertex both coordinates.
+// shape returns the shape with some rings.
 func shape(s string) movingregion.Shape {
-	var rings [][]api.Line
-	for _, text := range strings.Split(s, "|") {
-		var ring []api.Line
-		for _, word := range strings.Fields(text) {
-			x, y, _ := strings.Cut(word, ":")
-			var v api.Line
-			v.X0, v.X1 = pair(x)
-			v.Y0, v.Y1 = pair(y)
-			ring = append(ring, v)
-		}
-		rings = append(rings, ring)
-	}
+	rings := notation.Rings(s)
 	return movingregion.Shape{Outer: rings[0], Holes: rings[1:]}
 }
 
-func showShape(f movingregion.Shape) string {
-	var rings []string
-	for _, ring := range allRings(f) {
-		var words []string
-		for _, v := range ring {
-			words = append(words, showPair(v.X0, v.X1)+":"+showPair(v.Y0, v.Y1))
-		}
-		rings = append(rings, strings.Join(words, " "))
-	}
-	return strings.Join(rings, " | ")
-}
+func showShape(f movingregion.Shape) string { return notation.ShowRings(allRings(f)) }
 
 func allRings(f movingregion.Shape) [][]api.Line {
 	return append([][]api.Line{f.Outer}, f.Holes...)
 }
 
-// poly returns the polygon of a shape that rests.
-func poly(s string) api.Polygon { return polygonOf(shape(s), api.Rat{}) }
-
 func showPoly(p api.Polygon) string {
 	still := func(ring []api.Point) []api.Line {
-		var lines []api.Line
-		for _, v := range ring {
-			lines = append(lines, api.Line{X0: v.X, Y0: v.Y})
-		}
-		return lines
+		return lists.Convert(ring, func(v api.Point) api.Line { return api.Line{X0: v.X, Y0: v.Y} })
 	}
-	f := movingregion.Shape{Outer: still(p.Outer)}
-	for _, hole := range p.Holes {
-		f.Holes = append(f.Holes, still(hole))
-	}
-	return showShape(f)
+	return notation.ShowRings(lists.Convert(append([][]api.Point{p.Outer}, p.Holes...), still))
 }
 
 // polygonOf returns the polygon of a shape at an instant.
@@ -90,84 +61,22 @@ func polygonOf(f movingregion.Shape, t api.Rat) api.Polygon {
 	return api.Polygon{Outer: rings[0], Holes: rings[1:]}
 }
 
-// units returns the units that a string like "[0 1) 0:0 1:0 0:1,1; [1 1] 0:0 3:0 3:3" shows.
-func units(s string) []api.RegionUnit {
-	var l []api.RegionUnit
-	for _, part := range strings.Split(s, "; ") {
-		if words := strings.Fields(part); len(words) > 2 {
-			f := shape(strings.Join(words[2:], " "))
-			l = append(l, api.RegionUnit{In: in(words[0] + " " + words[1]), Outer: f.Outer, Holes: f.Holes})
-		}
-	}
-	return l
-}
-
-func showUnits(l []api.RegionUnit) string {
-	var parts []string
-	for _, u := range l {
-		parts = append(parts, notation.ShowInterval(u.In)+" "+showShape(shapeOf(u)))
-	}
-	return strings.Join(parts, "; ")
-}
-
 func shapeOf(u api.RegionUnit) movingregion.Shape {
 	return movingregion.Shape{Outer: u.Outer, Holes: u.Holes}
 }
 
-// number is p + q*s, where s is the root of the R of an instant (with a minus, if Neg is set). All coordinates at an instant, and what is computed of them, are such numbers; they are computed without the packages above real.
-type number struct{ p, q, r api.Rat }
+// The positions at an instant are those of package surd.
+type spot = surd.Spot
 
-func (a number) minus(b number) number {
-	return number{rational.Sub(a.p, b.p), rational.Sub(a.q, b.q), a.r}
-}
-
-func (a number) times(b number) number {
-	p := rational.Add(rational.Mul(a.p, b.p), rational.Mul(rational.Mul(a.q, b.q), a.r))
-	return number{p, rational.Add(rational.Mul(a.p, b.q), rational.Mul(a.q, b.p)), a.r}
-}
-
-func (a number) real() api.Real {
-	x, e := real.Make(a.p, a.q, a.r)
-	if e != api.OK {
-		panic(e)
-	}
-	return x
-}
-
-func (a number) sign() int { return real.Sign(a.real()) }
-
-// spot is a point at an instant.
-type spot struct{ x, y number }
-
-func spotOf(v api.Line, t api.Real) spot {
-	sign := rat("1")
-	if t.Neg {
-		sign = rat("-1")
-	}
-	coordinate := func(c0, c1 api.Rat) number {
-		return number{rational.Add(c0, rational.Mul(c1, t.P)), rational.Mul(c1, sign), t.R}
-	}
-	return spot{coordinate(v.X0, v.X1), coordinate(v.Y0, v.Y1)}
-}
+var (
+	cross    = surd.Cross
+	compare  = surd.Compare
+	within   = surd.Within
+	contains = surd.Contains
+)
 
 func ringOf(ring []api.Line, t api.Real) []spot {
-	var spots []spot
-	for _, v := range ring {
-		spots = append(spots, spotOf(v, t))
-	}
-	return spots
-}
-
-func (a spot) minus(b spot) spot { return spot{a.x.minus(b.x), a.y.minus(b.y)} }
-
-func cross(a, b spot) number { return a.x.times(b.y).minus(a.y.times(b.x)) }
-
-// compare compares two points by their coordinates.
-func compare(a, b spot) int {
-	if d := a.x.minus(b.x).sign(); d != 0 {
-		return d
-	}
-	return a.y.minus(b.y).sign()
+	return lists.Convert(ring, func(v api.Line) spot { return surd.Position(v, t) })
 }
 
 func less(a, b spot) spot {
@@ -186,36 +95,21 @@ func greater(a, b spot) spot {
 
 // common returns how many points the segments from a to b and from c to d have in common: 0, 1, or 2 if there are many. The parameters of the point that their lines have in common lie between 0 and 1.
 func common(a, b, c, d spot) int {
-	u, v, w := b.minus(a), d.minus(c), c.minus(a)
+	u, v, w := b.Minus(a), d.Minus(c), c.Minus(a)
 	det := cross(u, v)
-	if det.sign() != 0 {
-		for _, n := range []number{cross(w, v), cross(w, u)} {
-			if n.sign()*det.sign() < 0 || n.minus(det).sign()*det.sign() > 0 {
+	if det.Sign() != 0 {
+		for _, n := range []surd.Number{cross(w, v), cross(w, u)} {
+			if n.Sign()*det.Sign() < 0 || n.Minus(det).Sign()*det.Sign() > 0 {
 				return 0
 			}
 		}
 		return 1
 	}
-	if cross(w, u).sign() != 0 || cross(w, v).sign() != 0 {
+	if cross(w, u).Sign() != 0 || cross(w, v).Sign() != 0 {
 		return 0
 	}
 	from, to := greater(less(a, b), less(c, d)), less(greater(a, b), greater(c, d))
 	return 1 - compare(from, to)
-}
-
-// within tells whether a point is inside of a ring, on which it is not: a ray upwards crosses the ring an odd number of times.
-func within(p spot, ring []spot) bool {
-	crossings := 0
-	for k, a := range ring {
-		b := ring[(k+1)%len(ring)]
-		if compare(a, b) > 0 {
-			a, b = b, a
-		}
-		if a.x.minus(p.x).sign() <= 0 && p.x.minus(b.x).sign() < 0 && cross(b.minus(a), p.minus(a)).sign() < 0 {
-			crossings++
-		}
-	}
-	return crossings%2 == 1
 }
 
 // simple tells whether a ring is simple, by the words of layer 8.
@@ -391,11 +285,6 @@ func pairs(f func(a, b []api.RegionUnit)) {
 	})
 }
 
-func contains(i api.Interval, t api.Real) bool {
-	from, to := real.Compare(i.From, t), real.Compare(t, i.To)
-	return (from < 0 || from == 0 && !i.OpenFrom) && (to < 0 || to == 0 && !i.OpenTo)
-}
-
 // at returns the unit of a moving region to which an instant belongs.
 func at(l []api.RegionUnit, t api.Real) (api.RegionUnit, bool) {
 	for _, u := range l {
@@ -416,7 +305,7 @@ func positions(l []api.RegionUnit, t api.Real) string {
 	for _, ring := range allRings(shapeOf(u)) {
 		var words []string
 		for _, s := range ringOf(ring, t) {
-			words = append(words, real.Print(s.x.real())+":"+real.Print(s.y.real()))
+			words = append(words, real.Print(s.X.Real())+":"+real.Print(s.Y.Real()))
 		}
 		rings = append(rings, strings.Join(words, " "))
 	}
@@ -457,17 +346,17 @@ func same(p, q api.Polygon) bool {
 
 // area2 returns twice the area of a shape at an instant.
 func area2(f movingregion.Shape, t api.Real) api.Real {
-	zero := number{r: t.R}
+	var zero surd.Number
 	total := zero
 	for k, ring := range allRings(f) {
 		spots, area := ringOf(ring, t), zero
 		for n, a := range spots {
-			area = area.minus(cross(spots[(n+1)%len(spots)], a))
+			area = area.Minus(cross(spots[(n+1)%len(spots)], a))
 		}
-		if isHole := k > 0; isHole == (area.sign() > 0) {
-			area = zero.minus(area)
+		if isHole := k > 0; isHole == (area.Sign() > 0) {
+			area = zero.Minus(area)
 		}
-		total = total.minus(zero.minus(area))
+		total = total.Minus(zero.Minus(area))
 	}
-	return total.real()
+	return total.Real()
 }

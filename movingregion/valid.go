@@ -16,11 +16,11 @@ func Valid(f Shape, t api.Real) bool {
 		return false
 	}
 	for x := range faults(f) {
-		if x.happens(signAt(t)) {
+		if x.happens(linear.SignsAt(t)) {
 			return false
 		}
 	}
-	return isNested(f, signAt(t))
+	return isNested(f, linear.SignsAt(t))
 }
 
 func FirstBad(f Shape, in api.Interval) (t api.Real, itself, bad bool) {
@@ -36,7 +36,7 @@ func FirstBad(f Shape, in api.Interval) (t api.Real, itself, bad bool) {
 		}
 	}
 	// As long as no rings meet, none of them comes into another one, or leaves it.
-	if len(good) > 0 && !isNested(f, signAt(period.Pick(good[0]))) {
+	if len(good) > 0 && !isNested(f, linear.SignsAt(period.Pick(good[0]))) {
 		return in.From, !in.OpenFrom, true
 	}
 	return t, itself, bad
@@ -45,11 +45,6 @@ func FirstBad(f Shape, in api.Interval) (t api.Real, itself, bad bool) {
 // hasShortRing tells whether a ring has too few vertices.
 func hasShortRing(f Shape) bool {
 	return slices.ContainsFunc(rings(f), func(ring []api.Line) bool { return len(ring) < 3 })
-}
-
-// signAt returns a function that tells the signs of quadratics at an instant.
-func signAt(t api.Real) func(q api.Quad) int {
-	return func(q api.Quad) int { return quadratic.SignAt(q, t) }
 }
 
 // fault is something because of which a shape is not valid. Whether it happens at an instant depends on the signs of its functions there.
@@ -66,7 +61,7 @@ func firstCell(x fault, during []api.Interval) (api.Interval, bool) {
 		roots = append(roots, zeros...)
 	}
 	for _, cell := range period.Cells(during, roots) {
-		if x.happens(signAt(period.Pick(cell))) {
+		if x.happens(linear.SignsAt(period.Pick(cell))) {
 			return cell, true
 		}
 	}
@@ -125,7 +120,7 @@ func fold(a, b, c api.Line) fault {
 
 // crossing returns the fault that the edges from a to b and from c to d meet without being in line. Where edges in line overlap, there is another fault: one of them ends within the other one, or with it, and the edge that follows there leaves the line, folds, or overlaps in its turn, and no ring can stay on a line without a fold.
 func crossing(a, b, c, d api.Line) fault {
-	ofC, ofD, ofA, ofB := turn(a, b, c), turn(a, b, d), turn(c, d, a), turn(c, d, b)
+	ofC, ofD, ofA, ofB := linear.Turn(a, b, c), linear.Turn(a, b, d), linear.Turn(c, d, a), linear.Turn(c, d, b)
 	return fault{
 		functions: []api.Quad{ofC, ofD, ofA, ofB},
 		happens: func(sign func(q api.Quad) int) bool {
@@ -135,37 +130,17 @@ func crossing(a, b, c, d api.Line) fault {
 	}
 }
 
-// turn returns the function that is positive where the way from a over b to c turns left.
-func turn(a, b, c api.Line) api.Quad { return linear.Cross(linear.Sub(b, a), linear.Sub(c, a)) }
-
 // isNested tells whether the holes are inside of the outer ring, and outside of one another, at an instant at which no rings meet.
 func isNested(f Shape, sign func(q api.Quad) int) bool {
 	for k, hole := range f.Holes {
-		if !isInside(hole[0], f.Outer, sign) {
+		if !linear.Surrounds(f.Outer, hole[0], sign) {
 			return false
 		}
 		for n, other := range f.Holes {
-			if n != k && isInside(hole[0], other, sign) {
+			if n != k && linear.Surrounds(other, hole[0], sign) {
 				return false
 			}
 		}
 	}
 	return true
-}
-
-// isInside tells whether a point is inside of a ring, on which it is not.
-func isInside(p api.Line, ring []api.Line, sign func(q api.Quad) int) bool {
-	above := func(v api.Line) bool {
-		_, y := linear.Coordinates(linear.Sub(v, p))
-		return sign(y) > 0
-	}
-	inside := false
-	for k := range len(ring) {
-		a, b := ring[k], ring[(k+1)%len(ring)]
-		// A ray to the right crosses an edge that leads upwards if the point is on the left of it, and one that leads downwards if it is on the right.
-		if up := above(b); above(a) != up && (sign(turn(a, b, p)) > 0) == up {
-			inside = !inside
-		}
-	}
-	return inside
 }
