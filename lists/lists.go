@@ -22,3 +22,22 @@ func Neighbours[A any](l []A) iter.Seq2[A, A] {
 		}
 	}
 }
+
+// Keyed returns the elements of a list by their keys; of several ones with the same key, the last one.
+func Keyed[K comparable, A any](l []A, key func(a A) K) map[K]A {
+	elements := make(map[K]A, len(l))
+	for _, a := range l {
+		elements[key(a)] = a
+	}
+	return elements
+}
+
+// Least returns the least element of a list, of several ones the first one, and whether there is one.
+func Least[A any](l []A, compare func(a, b A) int) (least A, found bool) {
+	for k, a := range l {
+		if k == 0 || compare(a, least) < 0 {
+			least = a
+		}
+	}
+	return least, len(l) > 0
+}

@@ -1,6 +1,7 @@
 package lists_test
 
 import (
+	"maps"
 	"slices"
 	"testing"
 
@@ -47,5 +48,27 @@ func TestNeighbours(t *testing.T) {
 	}
 	if count != 2 {
 		t.Errorf("%d pairs before the break", count)
+	}
+}
+
+func TestKeyed(t *testing.T) {
+	got := lists.Keyed([]string{"a", "bc", "d", "efg", ""}, func(s string) int { return len(s) })
+	if want := map[int]string{0: "", 1: "d", 2: "bc", 3: "efg"}; !maps.Equal(got, want) {
+		t.Errorf("Keyed = %v", got)
+	}
+}
+
+func TestLeast(t *testing.T) {
+	for _, c := range []struct {
+		l     []string
+		want  string
+		found bool
+	}{
+		{nil, "", false}, {[]string{""}, "", true}, {[]string{"abc"}, "abc", true}, {[]string{"bb", "a", "c"}, "a", true}, {[]string{"a", "bb", ""}, "", true}, {[]string{"aa", "bb", "ccc"}, "aa", true},
+	} {
+		got, found := lists.Least(c.l, func(a, b string) int { return len(a) - len(b) })
+		if got != c.want || found != c.found {
+			t.Errorf("Least(%q) = %q, %v", c.l, got, found)
+		}
 	}
 }

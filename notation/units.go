@@ -33,11 +33,7 @@ func ShowPointUnits(l []api.PointUnit) string {
 
 func LabelUnits(s string) []api.LabelUnit {
 	return units(s, func(in api.Interval, words []string) api.LabelUnit {
-		label, err := strconv.Atoi(words[0])
-		if err != nil {
-			panic(s)
-		}
-		return api.LabelUnit{In: in, Label: label}
+		return api.LabelUnit{In: in, Label: number(words[0])}
 	})
 }
 
