@@ -7,6 +7,7 @@ import (
 
 	"viator/api"
 	"viator/candidate"
+	"viator/draws"
 	"viator/lists"
 	"viator/matching"
 	"viator/network"
@@ -59,11 +60,7 @@ func (q question) String() string {
 func questions() []question {
 	points := strings.Fields("0,0 1,0 1/2,1/2 0,1 2,0 1,1 3/2,1 2,1 1/3,-1 5,5 0,4 3,2")
 	ways := []string{"2 1 3", "1 1/2 2", "3 0 3", "1 3 4", "2 1/3 1", "5 2 3", "0 1 2", "3/2 1/4 5"}
-	state := 1
-	draw := func(below int) int {
-		state = state * 48271 % (1<<31 - 1)
-		return state / 16 % below
-	}
+	draw := draws.From(1)
 	var all []question
 	for _, n := range towns.Networks() {
 		for k := range 24 {

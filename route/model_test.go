@@ -5,6 +5,7 @@ import (
 	"strings"
 
 	"viator/api"
+	"viator/draws"
 	"viator/lists"
 	"viator/network"
 	"viator/notation"
@@ -119,12 +120,7 @@ func joined(l []route.Leg) []route.Leg {
 }
 
 // driver drives vehicles without a plan.
-type driver struct{ state int }
-
-func (d *driver) draw(below int) int {
-	d.state = d.state * 48271 % (1<<31 - 1)
-	return d.state / 16 % below
-}
+type driver struct{ draw func(below int) int }
 
 func (d *driver) fraction() api.Rat {
 	r, _ := rational.FromInts(1+d.draw(6), 1+d.draw(3))
@@ -176,7 +172,7 @@ func (d *driver) turn(n api.Network, p api.Place) api.Place {
 
 // everyRoute calls a function with the networks of package towns and routes on them.
 func everyRoute(f func(n api.Network, l []route.Leg)) {
-	d := &driver{1}
+	d := &driver{draws.From(1)}
 	for _, n := range towns.Networks() {
 		for range 15 {
 			f(n, d.drive(n))

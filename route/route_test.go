@@ -5,6 +5,7 @@ import (
 	"testing"
 
 	"viator/api"
+	"viator/draws"
 	"viator/network"
 	"viator/notation"
 	"viator/rational"
@@ -238,7 +239,7 @@ func along(n api.Network, from, to route.Stop) (route.Leg, bool) {
 }
 
 func TestP24_2(t *testing.T) {
-	d := &driver{5}
+	d := &driver{draws.From(5)}
 	for _, n := range towns.Networks() {
 		all := towns.Places(n)
 		for range 12 {

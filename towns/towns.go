@@ -3,6 +3,7 @@ package towns
 
 import (
 	"viator/api"
+	"viator/draws"
 	"viator/integer"
 	"viator/notation"
 	"viator/rational"
@@ -27,11 +28,7 @@ func Networks() []api.Network {
 	for _, s := range special() {
 		list = append(list, notation.Network(s))
 	}
-	state := 1
-	draw := func(below int) int {
-		state = state * 48271 % (1<<31 - 1)
-		return state / 16 % below
-	}
+	draw := draws.From(1)
 	for range 40 {
 		list = append(list, drawn(draw))
 	}
