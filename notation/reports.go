@@ -5,7 +5,9 @@ import (
 	"strings"
 
 	"viator/api"
+	"viator/intake"
 	"viator/lists"
+	"viator/rational"
 )
 
 // Reports returns the reports of a string like "1.5, 1.6 v2 t7 x-3 y4 d8 c": the Object and the Seq, and then Version, Time, X, Y, Device and Cancel, which can be left out if they are zero. ShowReports returns such a string.
@@ -53,6 +55,19 @@ func showReport(r api.Report) string {
 	return s
 }
 
+// Timed returns the reports of such a string in which the time by the clock of the server, like "51/2", stands before each report, and ShowTimed such a string.
+func Timed(s string) []intake.Timed {
+	return records(s, func(words []string) intake.Timed {
+		return intake.Timed{T: Rat(words[0]), Report: reportOf(words[1:])}
+	})
+}
+
+func ShowTimed(l []intake.Timed) string {
+	return strings.Join(lists.Convert(l, func(r intake.Timed) string {
+		return rational.Print(r.T) + " " + showReport(r.Report)
+	}), ", ")
+}
+
 // Exchanges returns the exchanges of a string like "0>1 10 17 2, 1>0 -5": the devices From and To, and then Sent, Received and Least, or only the weight. ShowExchanges returns such a string.
 func Exchanges(s string) []api.Exchange { return records(s, exchangeOf) }
 
@@ -78,4 +93,14 @@ func showExchange(x api.Exchange) string {
 		return s + strconv.Itoa(x.Received-x.Sent)
 	}
 	return s + strconv.Itoa(x.Sent) + " " + strconv.Itoa(x.Received) + " " + strconv.Itoa(x.Least)
+}
+
+// Batch returns the reports and the exchanges of a string like "1.5, 1.6 v2 | 0>1 -5", and ShowBatch such a string.
+func Batch(s string) api.Batch {
+	left, right, _ := strings.Cut(s, "|")
+	return api.Batch{Reports: Reports(left), Exchanges: Exchanges(right)}
+}
+
+func ShowBatch(b api.Batch) string {
+	return strings.TrimSpace(ShowReports(b.Reports) + " | " + ShowExchanges(b.Exchanges))
 }
