@@ -146,10 +146,11 @@ func (x *Intake) Late(r api.Report) (bool, api.Errno) {
 	if e := report.Check(r); e != api.OK {
 		return false, e
 	}
-	t, e := newTimer(x.Exchanges())(r)
+	time := newTimer(x.Exchanges())
+	t, e := time(r)
 	if e != api.OK {
 		return false, e
 	}
-	last, found := x.Frontier(r.Object)
+	last, found := frontier(x.about(r.Object), time)
 	return found && rational.Compare(t, last) <= 0, api.OK
 }
